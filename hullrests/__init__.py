@@ -1,0 +1,1 @@
+"""Hullrests: how a log floats at every heel."""

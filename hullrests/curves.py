@@ -1,0 +1,89 @@
+"""What moves as the left end goes along a piece, as rows in its share; nothing is checked here."""
+
+from hullrests.polygons import half_planes, on_scale, six_moments
+from hullrests.polys import row_by, row_less, row_plus, row_quotient, row_times, trimmed
+from hullrests.tracks import share_rule, spots_passed
+
+AXES = (0, 1)
+
+
+def _row_cross(one, other):
+    """The cross product of two pairs of rows."""
+    return row_less(row_times(one[0], other[1]), row_times(one[1], other[0]))
+
+
+def _row_inner(one, other):
+    """The inner product of two pairs of rows."""
+    return row_plus(row_times(one[0], other[0]), row_times(one[1], other[1]))
+
+
+def _left_end(spots, edge):
+    """The pair of rows of the left end."""
+    after = spots[(edge + 1) % len(spots)]
+    return [trimmed((spots[edge][d], after[d] - spots[edge][d])) for d in AXES]
+
+
+def _right_end(spots, opposite, top, bottom):
+    """The pair of rows of bottom times the right end, whose share is top / bottom."""
+    far, after = spots[opposite], spots[(opposite + 1) % len(spots)]
+    return [row_plus(row_by(bottom, far[d]), row_by(top, after[d] - far[d])) for d in AXES]
+
+
+def _moments(passed, left, right, way, bottom):
+    """The pair of rows of bottom times bottom times six times the area times the middle under water."""
+    near, far = passed[0], passed[-1]
+    fixed, square = six_moments(passed), row_times(bottom, bottom)
+    to_near = [row_less((near[d],), left[d]) for d in AXES]
+    to_far = [row_less((far[d],), left[d]) for d in AXES]
+    inland, shore = _row_cross(to_near, to_far), _row_cross(to_far, way)
+    found = []
+    for d in AXES:
+        # Three parts: between the corners passed, from them to the left end, from the last one to the water line.
+        inner_part = row_times(row_plus(left[d], (near[d] + far[d],)), inland)
+        corners = row_times(row_plus(left[d], (far[d],)), bottom)
+        outer_part = row_times(row_plus(right[d], corners), shore)
+        found.append(row_plus(row_times(square, row_plus((fixed[d],), inner_part)), outer_part))
+    return found
+
+
+def piece_rows(section, area, piece):
+    """The rows (BOTTOM, WAY, MOMENTS, SCALE) of a piece, on the scale of the section's corners.
+
+    BOTTOM is m + n * x of the share of the right end; WAY is BOTTOM times the way from the left end to the
+    right one; MOMENTS is BOTTOM times BOTTOM times six times the area times the middle of the water.
+    """
+    spots, scale = on_scale(section)
+    k, l, m, n = share_rule(section, area, piece)
+    top, bottom = trimmed((k, l)), trimmed((m, n))
+    left = _left_end(spots, piece[0])
+    right = _right_end(spots, piece[3], top, bottom)
+    way = [row_less(right[d], row_times(bottom, left[d])) for d in AXES]
+    passed = spots_passed(spots, piece[0], piece[3])
+    return (bottom, way, _moments(passed, left, right, way, bottom), scale)
+
+
+def lever_row(rows, area, ballast):
+    """The shortest row with the sign of the lever all along the piece of these rows."""
+    bottom, way, moments, scale = rows
+    wanted, parts = area
+    weight = row_by(row_times(bottom, bottom), 6 * wanted * scale ** 3)
+    gaps = [row_less(row_by(moments[d], parts * ballast[2]), row_by(weight, ballast[d])) for d in AXES]
+    # This product is BOTTOM times BOTTOM times BOTTOM times the lever.
+    return row_quotient(_row_inner(way, gaps), bottom)
+
+
+def meeting_rows(rows, area, polygon):
+    """Rows of which none is below 0 just where the metacentre is in the polygon, all along the piece of these rows."""
+    bottom, way, moments, scale = rows
+    wanted, parts = area
+    cube = row_times(bottom, row_times(bottom, bottom))
+    weight = row_by(cube, 12 * wanted * scale ** 3)
+    square = _row_inner(way, way)
+    turned = (row_by(way[1], -1), way[0])
+    # BOTTOM times BOTTOM times BOTTOM times 12 times the area times the metacentre.
+    metacentre = [row_plus(row_times(row_by(moments[d], 2), bottom), row_times(square, turned[d])) for d in AXES]
+    found = []
+    for a, b, h in half_planes(polygon):
+        over = row_plus(row_by(metacentre[0], parts * a), row_by(metacentre[1], parts * b))
+        found.append(row_less(row_by(weight, h), over))
+    return found

@@ -1,0 +1,136 @@
+"""Roots of rows: counted, parted, found, and compared, without a rounded number; nothing is checked here."""
+
+from hullrests.polys import row_common, row_quotient, row_sturm, sign_at
+from hullrests.ratios import midway, order, ratio
+
+
+def told_once(items):
+    """The items, neighbours that are alike told once."""
+    return [item for k, item in enumerate(items) if k == 0 or item != items[k - 1]]
+
+
+def chain_of(row):
+    """The Sturm row of a row not nought, made of its unlike roots alone: so it counts up to a root, too."""
+    chain = row_sturm(row)
+    if len(chain[-1]) == 1:
+        return chain
+    return row_sturm(row_quotient(row, chain[-1]))
+
+
+def _changes(chain, at):
+    """How often the sign changes along the chain, worths of 0 left out."""
+    signs = [sign for sign in [sign_at(row, at) for row in chain] if sign != 0]
+    return len(told_once(signs)) - 1
+
+
+def count_roots(chain, low, high):
+    """How many unlike roots there are from low up to high."""
+    first = 1 if sign_at(chain[0], low) == 0 else 0
+    if low == high:
+        return first
+    return _changes(chain, low) - _changes(chain, high) + first
+
+
+def count_below(chain, low, high):
+    """How many unlike roots there are from low on, below high."""
+    return count_roots(chain, low, high) - (1 if sign_at(chain[0], high) == 0 else 0)
+
+
+def parting(chain, low, high):
+    """Ascending fractions from low to high; from one of them up to the next there is at most one root."""
+    points, ahead = [low], [high]
+    while ahead:
+        if count_roots(chain, points[-1], ahead[-1]) < 2:
+            points.append(ahead.pop())
+        else:
+            ahead.append(midway(points[-1], ahead[-1]))
+    return points
+
+
+def samples(row, low, high):
+    """Fractions from low up to high, some of them wherever between two roots, for a row not nought."""
+    return parting(chain_of(row), low, high)
+
+
+def tale_of(row, low, high):
+    """The signs of the worths from low up to high, neighbours that are alike told once."""
+    if not row:
+        return [0]
+    chain = chain_of(row)
+    points = parting(chain, low, high)
+    signs = [sign_at(row, low)]
+    for at, beyond in zip(points, points[1:]):
+        after = sign_at(row, beyond)
+        if signs[-1] != 0 and after != 0 and count_roots(chain, at, beyond) == 1:
+            signs.append(0)
+        signs.append(after)
+    return told_once(signs)
+
+
+def tale_below(row, low, high):
+    """The same for a row not nought, with high, which is above low, left out."""
+    found = tale_of(row, low, high)
+    return found[:-1] if found[-1] == 0 else found
+
+
+def _count_up_to(chain, low, high, at):
+    """How many of the roots from low up to high are up to a fraction."""
+    if order(at, low) < 0:
+        return 0
+    return count_roots(chain, low, at if order(at, high) < 0 else high)
+
+
+def root_floor(chain, low, high, index, many):
+    """Of the roots from low up to high that with the index: (n, IS_JUST), from n / many on, below (n + 1) / many."""
+    below = low[0] * many // low[1] - 1
+    above = -(-high[0] * many // high[1])
+    while above - below > 1:
+        at = (below + above) // 2
+        if _count_up_to(chain, low, high, ratio(at, many)) > index:
+            above = at
+        else:
+            below = at
+    end = ratio(above, many)
+    if sign_at(chain[0], end) == 0 and order(end, high) <= 0 and _count_up_to(chain, low, high, end) == index + 1:
+        return (above, True)
+    return (below, False)
+
+
+def _sign_at_root(chain, low, high, row, own):
+    """The sign of a row, own its chain, at the only root from low up to high of the first chain."""
+    if count_roots(own, low, high) > 0:
+        common = row_common(chain[0], row)
+        if count_roots(row_sturm(common), low, high) > 0:
+            return 0
+    # They have no root in common, so the stretch shrinks until the row has none on it.
+    while count_roots(own, low, high) > 0:
+        at = midway(low, high)
+        if count_roots(chain, low, at) > 0:
+            high = at
+        else:
+            low = at
+    return sign_at(row, low)
+
+
+def _none_below_at_root(chain, low, high, marked):
+    """Whether none of the marked rows is below 0 at the only root from low up to high of the chain."""
+    for row, own in marked:
+        if _sign_at_root(chain, low, high, row, own) < 0:
+            return False
+    return True
+
+
+def none_below_somewhere(rows, low, high):
+    """Whether there is a number from low up to high at which the worth of none of the rows is below 0."""
+    told = [row for row in rows if row]
+    for at in (low, high):
+        if all([sign_at(row, at) >= 0 for row in told]):
+            return True
+    # Where this holds on a stretch, the stretch ends at low or high or at a root of one of the rows.
+    marked = [(row, chain_of(row)) for row in told]
+    for chain in [own for row, own in marked]:
+        points = parting(chain, low, high)
+        for at, beyond in zip(points, points[1:]):
+            if count_roots(chain, at, beyond) > 0 and _none_below_at_root(chain, at, beyond, marked):
+                return True
+    return False

@@ -1,0 +1,53 @@
+"""The examples of the document, from examples.txt; names mean the same from their first use on."""
+
+import ast
+import pathlib
+import unittest
+
+from hullrests.errors import HullError
+
+TEXT = (pathlib.Path(__file__).resolve().parent / "examples.txt").read_text()
+PROMPT = ">>> "
+
+
+def examples():
+    """The triples (HEADING, CODE, ANSWER) in their order; the answer is "" where none is told."""
+    heading, found = None, []
+    for line in TEXT.splitlines():
+        if line.startswith("## "):
+            heading = line[3:]
+        elif line.startswith(PROMPT):
+            found.append((heading, line[len(PROMPT):], ""))
+        else:
+            found.append((heading, found.pop()[1], line))
+    return found
+
+
+def shown(error):
+    """An error as the document writes it."""
+    attributes = ", ".join(f"{name}={value!r}" for name, value in vars(error).items())
+    return f"raises {error.__class__.__name__}({attributes})"
+
+
+class ExamplesTest(unittest.TestCase):
+    def test_examples(self):
+        names, many = {}, {}
+        for heading, code, answer in examples():
+            with self.subTest(heading, code=code):
+                if not answer:
+                    exec(code, names)
+                elif answer.startswith("raises "):
+                    with self.assertRaises(HullError) as caught:
+                        eval(code, names)
+                    self.assertEqual(answer, shown(caught.exception))
+                else:
+                    self.assertEqual(ast.literal_eval(answer), eval(code, names))
+                many[heading] = many.get(heading, 0) + bool(answer)
+        self.assertEqual({"hullrests/points.py": 1, "hullrests/sections.py": 2, "hullrests/cuts.py": 2,
+                          "hullrests/stands.py": 2, "hullrests/levers.py": 1, "hullrests/metacentres.py": 1,
+                          "hullrests/rows.py": 4, "hullrests/righting.py": 2, "hullrests/rests.py": 3,
+                          "hullrests/lots.py": 5}, many)
+
+
+if __name__ == "__main__":
+    unittest.main()
