@@ -17,53 +17,54 @@ def chain_of(row):
     return row_sturm(row_quotient(row, chain[-1]))
 
 
-def _changes(chain, at):
-    """How often the sign changes along the chain, worths of 0 left out."""
+def _mark(chain, at):
+    """The triple of a fraction, how often the sign changes there along the chain, and 1 for a root there, or 0."""
     signs = [sign for sign in [sign_at(row, at) for row in chain] if sign != 0]
-    return len(told_once(signs)) - 1
+    return (at, len(told_once(signs)) - 1, 1 if sign_at(chain[0], at) == 0 else 0)
+
+
+def _from_mark_to(mark, other):
+    """How many unlike roots there are from one mark up to another one."""
+    return mark[1] - other[1] + mark[2]
 
 
 def count_roots(chain, low, high):
     """How many unlike roots there are from low up to high."""
-    first = 1 if sign_at(chain[0], low) == 0 else 0
-    if low == high:
-        return first
-    return _changes(chain, low) - _changes(chain, high) + first
+    return _from_mark_to(_mark(chain, low), _mark(chain, high))
 
 
 def count_below(chain, low, high):
     """How many unlike roots there are from low on, below high."""
-    return count_roots(chain, low, high) - (1 if sign_at(chain[0], high) == 0 else 0)
+    end = _mark(chain, high)
+    return _from_mark_to(_mark(chain, low), end) - end[2]
 
 
-def parting(chain, low, high):
-    """Ascending fractions from low to high; from one of them up to the next there is at most one root."""
-    points, ahead = [low], [high]
+def _parting(chain, low, high):
+    """Ascending marks from low to high; from one of them up to the next there is at most one root."""
+    marks, ahead = [_mark(chain, low)], [_mark(chain, high)]
     while ahead:
-        if count_roots(chain, points[-1], ahead[-1]) < 2:
-            points.append(ahead.pop())
+        if _from_mark_to(marks[-1], ahead[-1]) < 2:
+            marks.append(ahead.pop())
         else:
-            ahead.append(midway(points[-1], ahead[-1]))
-    return points
+            ahead.append(_mark(chain, midway(marks[-1][0], ahead[-1][0])))
+    return marks
 
 
 def samples(row, low, high):
     """Fractions from low up to high, some of them wherever between two roots, for a row not nought."""
-    return parting(chain_of(row), low, high)
+    return [mark[0] for mark in _parting(chain_of(row), low, high)]
 
 
 def tale_of(row, low, high):
     """The signs of the worths from low up to high, neighbours that are alike told once."""
     if not row:
         return [0]
-    chain = chain_of(row)
-    points = parting(chain, low, high)
+    marks = _parting(chain_of(row), low, high)
     signs = [sign_at(row, low)]
-    for at, beyond in zip(points, points[1:]):
-        after = sign_at(row, beyond)
-        if signs[-1] != 0 and after != 0 and count_roots(chain, at, beyond) == 1:
+    for mark, other in zip(marks, marks[1:]):
+        if mark[2] == 0 and other[2] == 0 and _from_mark_to(mark, other) == 1:
             signs.append(0)
-        signs.append(after)
+        signs.append(sign_at(row, other[0]))
     return told_once(signs)
 
 
@@ -129,8 +130,8 @@ def none_below_somewhere(rows, low, high):
     # Where this holds on a stretch, the stretch ends at low or high or at a root of one of the rows.
     marked = [(row, chain_of(row)) for row in told]
     for chain in [own for row, own in marked]:
-        points = parting(chain, low, high)
-        for at, beyond in zip(points, points[1:]):
-            if count_roots(chain, at, beyond) > 0 and _none_below_at_root(chain, at, beyond, marked):
+        marks = _parting(chain, low, high)
+        for mark, other in zip(marks, marks[1:]):
+            if _from_mark_to(mark, other) == 1 and _none_below_at_root(chain, mark[0], other[0], marked):
                 return True
     return False

@@ -1,0 +1,50 @@
+"""Names, arguments and homes of all that the interface lists."""
+
+import importlib
+import inspect
+import unittest
+
+INTERFACE = {
+    "points": "is_fraction(value) is_point(value) is_direction(value) plus(point,other) minus(point,other) "
+              "times(point,fraction) between(point,other,fraction) inner(point,other) cross(point,other) quarter(point) "
+              "sense(point,other,third)",
+    "sections": "is_section(value) is_polygon(value) polygon_of(points) section_of(points) area_of(polygon) "
+                "middle_of(section) holds(polygon,point) is_inside(section,point) moved(section,way) turned(section) "
+                "mirrored(section) grown(section,fraction) is_rim_point(section,value) on_rim(section,rim) "
+                "rim_of(section,point)",
+    "cuts": "height_of(up,point) heights(section,up) line_at(section,up,height) line_through(section,up,point) "
+            "area_below(section,up,height) is_stand(section,value) ends_of(section,stand) up_of(section,stand) "
+            "area_of_stand(section,stand) wet_part(section,stand) dry_part(section,stand) wet_corners(section,stand)",
+    "stands": "stand_from(section,area,left) stand_to(section,area,right) corner_stands(section,area) "
+              "pieces(section,area) piece_of(section,area,left) right_share(section,area,index) "
+              "is_on_arc(section,arc,left) stretches(section,area,arc)",
+    "levers": "middle_below(section,stand) lever(section,ballast,stand) word_at(section,ballast,stand) "
+              "rise(section,ballast,stand) compare(section,ballast,stand,other)",
+    "metacentres": "metacentre(section,stand) firmness(section,ballast,stand) ballast_line(section,stand) "
+                   "ballast_for(section,stand,fraction)",
+    "rows": "is_row(value) row_of(numbers) worth(row,at) row_sum(row,other) row_product(row,other) growth(row) "
+            "shortest(row) remainder(row,other) common_factor(row,other) sturm_row(row) how_many(row,low,high) "
+            "root_near(row,low,high,index,many) sign_tale(row,low,high) is_above(row,low,high)",
+    "righting": "righting_row(log,index) righting_tale(log)",
+    "rests": "rests(log) near(log,index,many) rest_at(log,stand) kind_of(log,stand) comes_to(log,stand) "
+             "has_one_pose(log) hold(log,index)",
+    "lots": "words_at(section,stand,lot) words_on(section,area,lot,arc) turned_at(section,area,lot,arc,word) "
+            "is_trap(section,area,lot,arc) can_turn(section,area,lot,arc,word) resting_part(section,stand,lot) "
+            "low_part(section,stand,lot) meets_metacentres(section,area,lot,arc) firm_for_all(section,area,lot)",
+}
+
+
+class InterfaceTest(unittest.TestCase):
+    def test_functions(self):
+        for home, told in INTERFACE.items():
+            module = importlib.import_module("hullrests." + home)
+            for each in told.split():
+                with self.subTest(home, function=each):
+                    name, arguments = each.rstrip(")").split("(")
+                    function = getattr(module, name)
+                    self.assertEqual(module.__name__, function.__module__)
+                    self.assertEqual(arguments.split(","), list(inspect.signature(function).parameters))
+
+
+if __name__ == "__main__":
+    unittest.main()
