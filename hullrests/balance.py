@@ -17,6 +17,26 @@ def sign_for(word):
     return 1 if word == "left" else -1
 
 
+def words_of(signs):
+    """The words that come where the levers of all corners of a lot have these signs."""
+    least, most = min(signs), max(signs)
+    found = []
+    if most > 0:
+        found.append("left")
+    if least <= 0 <= most:
+        found.append("rest")
+    if least < 0:
+        found.append("right")
+    return tuple(found)
+
+
+def kind_between(before, behind):
+    """The kind of a rest with these signs of the lever before it and behind it."""
+    if before == behind:
+        return "sliding"
+    return "firm" if before < 0 else "tipping"
+
+
 def lever_of(section, ballast, stand):
     """The inner product of the water line's way and the middle of the water less the ballast."""
     return inner_of(water_way(section, stand), way_to(ballast, wet_middle(section, stand)))

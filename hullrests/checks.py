@@ -1,10 +1,12 @@
 """Checks of arguments: each one raises the error of its kind, or nothing."""
 
 from hullrests.errors import InvalidArc, InvalidArea, InvalidDirection, InvalidFraction, InvalidIndex, InvalidLog
-from hullrests.errors import InvalidNumber, InvalidNumbers, InvalidPoint, InvalidPoints, InvalidPolygon
-from hullrests.errors import InvalidRimPoint, InvalidRow, InvalidSection, InvalidStand, InvalidWord, NotAhead
-from hullrests.kinds import arc_fits, area_fits, direction_fits, fraction_fits, log_fits, numbers_fit, point_fits
-from hullrests.kinds import polygon_fits, rim_fits, row_fits, section_fits, stand_fits, whole_up_to, word_fits
+from hullrests.errors import InvalidNote, InvalidNotes, InvalidNumber, InvalidNumbers, InvalidPoint, InvalidPoints
+from hullrests.errors import InvalidPolygon, InvalidRimPoint, InvalidRow, InvalidSection, InvalidStand, InvalidWord
+from hullrests.errors import NotAhead
+from hullrests.kinds import arc_fits, area_fits, direction_fits, fraction_fits, log_fits, note_fits, numbers_fit
+from hullrests.kinds import point_fits, polygon_fits, rim_fits, row_fits, section_fits, stand_fits, whole_up_to
+from hullrests.kinds import word_fits
 from hullrests.ratios import order
 
 
@@ -69,6 +71,21 @@ def check_arc(section, value):
     """InvalidArc for no arc of the section."""
     if not arc_fits(section, value):
         raise InvalidArc(value)
+
+
+def check_note(section, value):
+    """InvalidNote for no note of the section."""
+    if not note_fits(section, value):
+        raise InvalidNote(value)
+
+
+def check_notes(section, value):
+    """InvalidNotes: None for no tuple, else the first element that is no note of the section, or the 13th."""
+    if not isinstance(value, tuple):
+        raise InvalidNotes(None)
+    for k, note in enumerate(value):
+        if k == 12 or not note_fits(section, note):
+            raise InvalidNotes(k)
 
 
 def check_log(value):

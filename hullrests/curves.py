@@ -1,8 +1,8 @@
 """What moves as the left end goes along a piece, as rows in its share; nothing is checked here."""
 
 from hullrests.polygons import half_planes, on_scale, six_moments
-from hullrests.polys import row_by, row_less, row_plus, row_quotient, row_times, trimmed
-from hullrests.tracks import share_rule, spots_passed
+from hullrests.polys import row_by, row_less, row_plus, row_quotient, row_shortest, row_times, trimmed
+from hullrests.tracks import arc_pieces, share_rule, spots_passed
 
 AXES = (0, 1)
 
@@ -46,20 +46,49 @@ def _moments(passed, left, right, way, bottom):
     return found
 
 
-def piece_rows(section, area, piece):
-    """The rows (BOTTOM, WAY, MOMENTS, SCALE) of a piece, on the scale of the section's corners.
+def _end_rows(section, area, piece):
+    """The rows (BOTTOM, LEFT, RIGHT, WAY) of a piece, on the scale of the section's corners.
 
-    BOTTOM is m + n * x of the share of the right end; WAY is BOTTOM times the way from the left end to the
-    right one; MOMENTS is BOTTOM times BOTTOM times six times the area times the middle of the water.
+    BOTTOM is m + n * x of the share of the right end; RIGHT is BOTTOM times the right end, WAY is BOTTOM times
+    the way from the left end to the right one.
     """
     spots, scale = on_scale(section)
     k, l, m, n = share_rule(section, area, piece)
     top, bottom = trimmed((k, l)), trimmed((m, n))
     left = _left_end(spots, piece[0])
     right = _right_end(spots, piece[3], top, bottom)
-    way = [row_less(right[d], row_times(bottom, left[d])) for d in AXES]
+    return (bottom, left, right, [row_less(right[d], row_times(bottom, left[d])) for d in AXES])
+
+
+def piece_rows(section, area, piece):
+    """The rows (BOTTOM, WAY, MOMENTS, SCALE) of a piece, on the scale of the section's corners.
+
+    MOMENTS is BOTTOM times BOTTOM times six times the area times the middle of the water.
+    """
+    spots, scale = on_scale(section)
+    bottom, left, right, way = _end_rows(section, area, piece)
     passed = spots_passed(spots, piece[0], piece[3])
     return (bottom, way, _moments(passed, left, right, way, bottom), scale)
+
+
+def wetness_row(section, area, piece, point):
+    """The shortest row that is above 0 where the point is dry, below 0 where it is wet, all along the piece."""
+    spots, scale = on_scale(section)
+    bottom, left, right, way = _end_rows(section, area, piece)
+    gaps = [row_less((point[d] * scale,), row_by(left[d], point[2])) for d in AXES]
+    return row_shortest(_row_cross(way, gaps))
+
+
+def arc_rows(section, area, arc):
+    """The tuples (EDGE, LOW, HIGH, ROWS) of an arc's stretches, with the rows of their pieces."""
+    told = arc_pieces(section, area, arc)
+    return [(piece[0], low, high, piece_rows(section, area, piece)) for piece, low, high in told]
+
+
+def arc_wetness(section, area, arc, point):
+    """The tuples (EDGE, LOW, HIGH, ROW) of an arc's stretches, with the wetness rows of a point."""
+    told = arc_pieces(section, area, arc)
+    return [(piece[0], low, high, wetness_row(section, area, piece, point)) for piece, low, high in told]
 
 
 def lever_row(rows, area, ballast):

@@ -6,6 +6,8 @@ from hullrests.polygons import hull_of, polygon_area
 from hullrests.ratios import common_divisor, order
 from hullrests.rims import share_edge
 
+SAYINGS = ("left", "right", "rest", "firm", "tipping", "sliding")
+
 
 def is_whole(value):
     """Whether it is a whole number, which True and False are not."""
@@ -79,6 +81,11 @@ def stand_fits(section, value):
 def arc_fits(section, value):
     """Whether it is an arc of the section."""
     return value is None or rims_fit(section, value)
+
+
+def note_fits(section, value):
+    """Whether it is a note of the section."""
+    return pair_fits(value) and word_fits(SAYINGS, value[0]) and stand_fits(section, value[1])
 
 
 def log_fits(value):

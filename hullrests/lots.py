@@ -1,37 +1,23 @@
 """What all ballast of a lot does, at one stand or all along an arc of stands."""
 
-from hullrests.balance import level_line, lever_of, rest_line, sign_for
+from hullrests.balance import level_line, lever_of, rest_line, sign_for, words_of
 from hullrests.checks import check_arc, check_area, check_polygon, check_section, check_stand, check_word
-from hullrests.curves import lever_row, meeting_rows, piece_rows
+from hullrests.curves import arc_rows, lever_row, meeting_rows
 from hullrests.plane import opposite_line
 from hullrests.polygons import cut_below
-from hullrests.polys import row_by, sign_at
+from hullrests.polys import row_by
 from hullrests.ratios import sign_of
 from hullrests.rests import kinds_round
 from hullrests.righting import righting_parts
 from hullrests.rims import rim_on, stand_ahead
-from hullrests.roots import none_below_somewhere, samples, tale_of
-from hullrests.tracks import all_pieces, arc_stretches
+from hullrests.roots import none_below_somewhere, sample_with, tale_of
 
 TURNS = ("left", "right")
 
 
-def _words_of(signs):
-    """The words that come where the levers of the corners have these signs."""
-    least, most = min(signs), max(signs)
-    found = []
-    if most > 0:
-        found.append("left")
-    if least <= 0 <= most:
-        found.append("rest")
-    if least < 0:
-        found.append("right")
-    return tuple(found)
-
-
 def _words_there(section, stand, lot):
     """The words that come at a stand, unchecked."""
-    return _words_of([sign_of(lever_of(section, corner, stand)[0]) for corner in lot])
+    return words_of([sign_of(lever_of(section, corner, stand)[0]) for corner in lot])
 
 
 def words_at(section, stand, lot):
@@ -50,40 +36,23 @@ def _check_on_arc(section, area, lot, arc):
     check_arc(section, arc)
 
 
-def _arc_rows(section, area, arc):
-    """The tuples (EDGE, LOW, HIGH, ROWS) of an arc's stretches, with the rows of what moves along them."""
-    found = all_pieces(section, area)
-    told = []
-    for k, low, high in arc_stretches(found, arc):
-        told.append((found[k][0], low, high, piece_rows(section, area, found[k])))
-    return told
-
-
 def words_on(section, area, lot, arc):
     """The words that come at some stand of the arc with some ballast of the lot."""
     _check_on_arc(section, area, lot, arc)
     signs = []
-    for edge, low, high, rows in _arc_rows(section, area, arc):
+    for edge, low, high, rows in arc_rows(section, area, arc):
         for corner in lot:
             signs.extend(tale_of(lever_row(rows, area, corner), low, high))
-    return _words_of(signs)
-
-
-def _share_with(row, low, high, sign):
-    """A share from low up to high at which the row has this sign, None if there is none."""
-    for share in samples(row, low, high):
-        if sign_at(row, share) == sign:
-            return share
-    return None
+    return words_of(signs)
 
 
 def turned_at(section, area, lot, arc, word):
     """A stand of the arc and a corner of the lot with which it has the word; None if it does not come."""
     _check_on_arc(section, area, lot, arc)
     check_word(TURNS, word)
-    for edge, low, high, rows in _arc_rows(section, area, arc):
+    for edge, low, high, rows in arc_rows(section, area, arc):
         for corner in lot:
-            share = _share_with(lever_row(rows, area, corner), low, high, sign_for(word))
+            share = sample_with(lever_row(rows, area, corner), low, high, sign_for(word))
             if share is not None:
                 return (stand_ahead(section, area, rim_on(section, edge, share)), corner)
     return None
@@ -104,7 +73,7 @@ def can_turn(section, area, lot, arc, word):
     """Whether the word comes with the lot at each stand of the arc."""
     _check_on_arc(section, area, lot, arc)
     check_word(TURNS, word)
-    for edge, low, high, rows in _arc_rows(section, area, arc):
+    for edge, low, high, rows in arc_rows(section, area, arc):
         against = [row_by(lever_row(rows, area, corner), -sign_for(word)) for corner in lot]
         if none_below_somewhere(against, low, high):
             return False
@@ -137,7 +106,7 @@ def low_part(section, stand, lot):
 
 def _meets(section, area, lot, arc):
     """Whether some stand of the arc has its metacentre in the lot, unchecked."""
-    for edge, low, high, rows in _arc_rows(section, area, arc):
+    for edge, low, high, rows in arc_rows(section, area, arc):
         if none_below_somewhere(meeting_rows(rows, area, lot), low, high):
             return True
     return False

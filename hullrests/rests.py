@@ -1,5 +1,6 @@
 """Where a log rests, how firmly, and where it comes to from any stand."""
 
+from hullrests.balance import kind_between
 from hullrests.checks import check_index, check_log, check_many, check_stand
 from hullrests.errors import NotFirm, WrongArea
 from hullrests.polys import sign_at
@@ -9,20 +10,13 @@ from hullrests.rims import wet_area
 from hullrests.roots import chain_of, count_below, root_floor
 
 
-def _kind(before, behind):
-    """The kind of a rest with these signs of the lever before it and behind it."""
-    if before == behind:
-        return "sliding"
-    return "firm" if before < 0 else "tipping"
-
-
 def kinds_round(parts):
     """The kinds of all rests, in their order."""
     signs = signs_round(parts)
     found = []
     for k, sign in enumerate(signs):
         if sign == 0:
-            found.append(_kind(signs[k - 1], signs[(k + 1) % len(signs)]))
+            found.append(kind_between(signs[k - 1], signs[(k + 1) % len(signs)]))
     return tuple(found)
 
 

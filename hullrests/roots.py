@@ -1,6 +1,6 @@
 """Roots of rows: counted, parted, found, and compared, without a rounded number; nothing is checked here."""
 
-from hullrests.polys import row_common, row_quotient, row_sturm, sign_at
+from hullrests.polys import row_common, row_growth, row_quotient, row_sturm, row_times, sign_at
 from hullrests.ratios import midway, order, ratio
 
 
@@ -53,6 +53,36 @@ def _parting(chain, low, high):
 def samples(row, low, high):
     """Fractions from low up to high, some of them wherever between two roots, for a row not nought."""
     return [mark[0] for mark in _parting(chain_of(row), low, high)]
+
+
+def sample_with(row, low, high, sign):
+    """A fraction from low up to high at which the row has this sign, 1 or -1; None if there is none."""
+    if not row:
+        return None
+    for at in samples(row, low, high):
+        if sign_at(row, at) == sign:
+            return at
+    return None
+
+
+def sample_inside(row, low, high, sign):
+    """The same above low and below high."""
+    if not row:
+        return None
+    # With roots at low and high, too, there is a sample between these and the others.
+    ended = row_times(row, row_times((-low[0], low[1]), (-high[0], high[1])))
+    for at in samples(ended, low, high)[1:-1]:
+        if sign_at(row, at) == sign:
+            return at
+    return None
+
+
+def sign_beside(row, at, way):
+    """The sign of a row not nought just behind a fraction (the way 1) or just before it (-1)."""
+    turn = 1
+    while sign_at(row, at) == 0:
+        row, turn = row_growth(row), turn * way
+    return sign_at(row, at) * turn
 
 
 def tale_of(row, low, high):

@@ -114,3 +114,9 @@ def arc_stretches(pieces, arc):
     if rim_order(first, last) < 0:
         return _span_stretches(pieces, first, last)
     return _span_stretches(pieces, first, None) + _span_stretches(pieces, (0, (0, 1)), last)
+
+
+def arc_pieces(section, area, arc):
+    """The same as triples (PIECE, LOW, HIGH) of the pieces themselves."""
+    found = all_pieces(section, area)
+    return [(found[k], low, high) for k, low, high in arc_stretches(found, arc)]

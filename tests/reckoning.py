@@ -1,5 +1,6 @@
 """The tests' own reckoning, with Fraction and by triangles, apart from the package's way of doing it."""
 
+import functools
 import math
 import random
 from fractions import Fraction
@@ -42,19 +43,35 @@ def rim_spot(section, rim):
     return (x + share * (u - x), y + share * (v - y))
 
 
-def wet(section, stand):
-    """What lies to the right of the water line, cut off side by side."""
-    left, right = rim_spot(section, stand[0]), rim_spot(section, stand[1])
+def cut_off(section, over):
+    """What of a section is not above a line, side by side; `over` tells how far above it a place is."""
     corners = [spot(corner) for corner in section]
     found = []
     for here, there in zip(corners, corners[1:] + corners[:1]):
-        a, b = cross(left, right, here), cross(left, right, there)
+        a, b = over(here), over(there)
         if a <= 0:
             found.append(here)
         if a * b < 0:
             share = a / (a - b)
             found.append((here[0] + share * (there[0] - here[0]), here[1] + share * (there[1] - here[1])))
     return found
+
+
+def wet(section, stand):
+    """What lies to the right of the water line."""
+    left, right = rim_spot(section, stand[0]), rim_spot(section, stand[1])
+    return cut_off(section, lambda place: cross(left, right, place))
+
+
+def height(up, place):
+    """The height of a place along an up."""
+    return up[0] * place[0] + up[1] * place[1]
+
+
+@functools.lru_cache(maxsize=20000)
+def below(section, up, level):
+    """What of a section is not higher than a level."""
+    return cut_off(section, lambda place: height(up, place) - level)
 
 
 def triangles(shape):
@@ -84,20 +101,33 @@ def way(section, stand):
     return (right[0] - left[0], right[1] - left[1])
 
 
+@functools.lru_cache(maxsize=20000)
+def water(section, stand):
+    """The way from the left end to the right one, and the middle of what is under water."""
+    return way(section, stand), middle(wet(section, stand))
+
+
 def lever(section, ballast, stand):
     """The lever, by triangles."""
     g = spot(ballast)
-    c, b = way(section, stand), middle(wet(section, stand))
+    c, b = water(section, stand)
     return c[0] * (b[0] - g[0]) + c[1] * (b[1] - g[1])
+
+
+def firmness(section, ballast, stand):
+    """The firmness, by triangles."""
+    (x, y), (u, v), c = metacentre(section, stand), spot(ballast), way(section, stand)
+    return -c[1] * (x - u) + c[0] * (y - v)
 
 
 def rise(section, ballast, stand):
     """The rise, by triangles."""
     g = spot(ballast)
-    c, b = way(section, stand), middle(wet(section, stand))
+    c, b = water(section, stand)
     return -c[1] * (g[0] - b[0]) + c[0] * (g[1] - b[1])
 
 
+@functools.lru_cache(maxsize=20000)
 def metacentre(section, stand):
     """The metacentre, by triangles."""
     c, shape = way(section, stand), wet(section, stand)

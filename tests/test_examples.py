@@ -6,14 +6,16 @@ import unittest
 
 from hullrests.errors import HullError
 
-TEXT = (pathlib.Path(__file__).resolve().parent / "examples.txt").read_text()
+FOLDER = pathlib.Path(__file__).resolve().parent
+TEXT = (FOLDER / "examples.txt").read_text()
+README = (FOLDER.parent / "README.md").read_text()
 PROMPT = ">>> "
 
 
-def examples():
+def examples(text):
     """The triples (HEADING, CODE, ANSWER) in their order; the answer is "" where none is told."""
     heading, found = None, []
-    for line in TEXT.splitlines():
+    for line in text.splitlines():
         if line.startswith("## "):
             heading = line[3:]
         elif line.startswith(PROMPT):
@@ -32,7 +34,7 @@ def shown(error):
 class ExamplesTest(unittest.TestCase):
     def test_examples(self):
         names, many = {}, {}
-        for heading, code, answer in examples():
+        for heading, code, answer in examples(TEXT):
             with self.subTest(heading, code=code):
                 if not answer:
                     exec(code, names)
@@ -46,7 +48,19 @@ class ExamplesTest(unittest.TestCase):
         self.assertEqual({"hullrests/points.py": 1, "hullrests/sections.py": 2, "hullrests/cuts.py": 2,
                           "hullrests/stands.py": 2, "hullrests/levers.py": 1, "hullrests/metacentres.py": 1,
                           "hullrests/rows.py": 4, "hullrests/righting.py": 2, "hullrests/rests.py": 3,
-                          "hullrests/lots.py": 5}, many)
+                          "hullrests/lots.py": 5, "hullrests/draughts.py": 5, "hullrests/drypoints.py": 5,
+                          "hullrests/notes.py": 5}, many)
+
+    def test_readme(self):
+        names, many = {}, 0
+        for heading, code, answer in examples(README.split("```")[1].strip()):
+            with self.subTest(code=code):
+                if answer:
+                    self.assertEqual(ast.literal_eval(answer), eval(code, names))
+                    many += 1
+                else:
+                    exec(code, names)
+        self.assertEqual(8, many)
 
 
 if __name__ == "__main__":

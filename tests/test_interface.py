@@ -31,6 +31,17 @@ INTERFACE = {
     "lots": "words_at(section,stand,lot) words_on(section,area,lot,arc) turned_at(section,area,lot,arc,word) "
             "is_trap(section,area,lot,arc) can_turn(section,area,lot,arc,word) resting_part(section,stand,lot) "
             "low_part(section,stand,lot) meets_metacentres(section,area,lot,arc) firm_for_all(section,area,lot)",
+    "draughts": "turning_profile(section,up,ballast) firmness_profile(section,up,ballast) "
+                "loading_profile(section,up,height,ballast,place) profile_sign(profile,height) profile_tale(profile) "
+                "change_near(profile,index,many) is_always_level(section,up,ballast) words_at_up(section,up,lot) "
+                "turned_height(section,up,lot,word)",
+    "drypoints": "wetness(section,stand,point) wet_words(section,area,point,arc) wet_tale(section,area,point,arc) "
+                 "wet_change(section,area,point,arc,index,many) stand_with(section,area,point,arc,word) "
+                 "least_below(section,point) greatest_below(section,point) is_vented(section,area,points,arc)",
+    "notes": "is_note(section,value) keeps(section,ballast,note) fitting_part(section,lot,notes) "
+             "fitting_ballast(section,lot,notes) at_odds(section,lot,notes) status_of(section,lot,notes,note) "
+             "words_left(section,lot,notes,stand) needless_notes(section,lot,notes) kept_notes(section,lot,notes) "
+             "tells_all(section,lot,notes,others)",
 }
 
 

@@ -1,13 +1,16 @@
 """Polygons, sections and rim points."""
 
+import itertools
 import unittest
+from fractions import Fraction
 
 from hullrests import sections
 from hullrests.errors import (InvalidFraction, InvalidPoint, InvalidPoints, InvalidPolygon, InvalidRimPoint,
                               InvalidSection, NoArea)
+from hullrests.points import between
 from tests import wrong
 from tests.reckoning import Maker, area, cross, hull, middle, number, pair, point, rim_spot, spot, within
-from tests.shapes import ALL, SQUARE, half, square
+from tests.shapes import ALL, SQUARE, half, hexagon, square
 from tests.wrong import NINE, check_arguments, raised
 
 SECTION = (InvalidSection, wrong.SECTIONS)
@@ -47,6 +50,103 @@ class SectionsTest(unittest.TestCase):
                 raised(self, NoArea, {}, sections.section_of, given)
         self.assertEqual(((0, 0, 1),), sections.polygon_of(((0, 0, 1),) * 8))
         self.assertEqual(((0, 0, 1), (4, 4, 1)), sections.polygon_of(((1, 1, 1), (4, 4, 1), (0, 0, 1), (3, 3, 2))))
+
+    def test_hulls_in_any_order(self):
+        shapes = (((1, 2, 3),), ((1, 2, 3),) * 3, ((0, 0, 1), (3, 3, 1), (1, 1, 1)),
+                  ((0, 0, 1), (0, 2, 1), (0, 1, 1), (0, 2, 1)),
+                  ((0, 0, 1), (4, 0, 1), (2, 0, 1), (0, 4, 1), (2, 2, 1)), SQUARE + ((1, 0, 1), (1, 1, 1)), hexagon)
+        for given in shapes:
+            expected = tuple(point(x, y) for x, y in hull([spot(each) for each in given]))
+            for order in itertools.islice(itertools.permutations(given), 0, None, 7):
+                self.assertEqual(expected, sections.polygon_of(order))
+        maker = Maker(14)
+        for many in range(1, 9):
+            given = [maker.point(3, 10 ** 30) for _ in range(many)]
+            expected = tuple(point(x, y) for x, y in hull([spot(each) for each in given]))
+            for _ in range(20):
+                maker.random.shuffle(given)
+                self.assertEqual(expected, sections.polygon_of(tuple(given)))
+        # Of eight points the eighth counts, of two that are nearly one each does.
+        self.assertEqual(8, len(sections.section_of(NINE[:8])))
+        near = (10 ** 30 + 1, 10 ** 30, 10 ** 30)
+        self.assertEqual(((0, 0, 1), near, (1, 1, 1)), sections.section_of(((1, 1, 1), near, (0, 0, 1))))
+
+    def test_other_orders_of_corners_are_none(self):
+        for section in ALL:
+            places = spots(section)
+            between_two = point(*((a + b) / 2 for a, b in zip(places[1], places[2])))
+            for wrong_one in (section[::-1], section[1:] + section[:1], section[-1:] + section[:-1],
+                              section[:1] + section, section + section[:1], list(section),
+                              section[:2] + (between_two,) + section[2:],
+                              section[:1] + section[:0:-1], section + ([],), section[:-1] + (list(section[-1]),)):
+                self.assertIs(False, sections.is_polygon(wrong_one))
+                self.assertIs(False, sections.is_section(wrong_one))
+            for tiny in (Fraction(1, 10 ** 40), -Fraction(1, 10 ** 40)):
+                # A corner a little outside of an edge is one, a little inside it is none.
+                (a, b), (c, d) = places[1], places[2]
+                beside = point((a + c) / 2 + tiny * (d - b), (b + d) / 2 - tiny * (c - a))
+                told = section[:2] + (beside,) + section[2:]
+                self.assertIs(tiny > 0, sections.is_polygon(told))
+                self.assertIs(tiny > 0 and len(told) < 9, sections.is_section(told))
+        for many in range(1, 10):
+            self.assertIs(3 <= many <= 8, sections.is_section(sections.polygon_of(NINE[:many]) if many < 9 else NINE))
+
+    def test_just_beside_the_rim(self):
+        for section in ALL:
+            places = spots(section)
+            for (a, b), (c, d) in zip(places, places[1:] + places[:1]):
+                for share in (0, Fraction(1, 3), Fraction(10 ** 40, 10 ** 40 + 1)):
+                    for tiny in (0, Fraction(1, 10 ** 60), -Fraction(1, 10 ** 60)):
+                        x, y = a + share * (c - a) - tiny * (d - b), b + share * (d - b) + tiny * (c - a)
+                        inside = all(cross(p, q, (x, y)) > 0 for p, q in zip(places, places[1:] + places[:1]))
+                        told = point(x, y)
+                        self.assertIs(within(section, (x, y)), sections.holds(section, told))
+                        self.assertIs(inside, sections.is_inside(section, told))
+                        on_rim = within(section, (x, y)) and not inside
+                        self.assertEqual(on_rim, sections.rim_of(section, told) is not None)
+        stretch, one = ((0, 0, 1), (3, 1, 1)), ((1, 2, 3),)
+        for share, told in (((1, 3), True), ((0, 1), True), ((1, 1), True), ((-1, 10 ** 50), False),
+                            ((10 ** 50 + 1, 10 ** 50), False)):
+            self.assertIs(told, sections.holds(stretch, between(*stretch, share)))
+        self.assertIs(False, sections.holds(stretch, (3 * 10 ** 50, 10 ** 50 + 1, 2 * 10 ** 50)))
+        self.assertIs(True, sections.holds(one, (1, 2, 3)))
+        self.assertIs(False, sections.holds(one, (10 ** 50 + 1, 2 * 10 ** 50, 3 * 10 ** 50)))
+
+    def test_there_and_back(self):
+        for section in ALL:
+            for way in ((3, -4, 7), (10 ** 50, 1, 3), (0, 0, 1)):
+                back = (-way[0], -way[1], way[2])
+                self.assertEqual(section, sections.moved(sections.moved(section, way), back))
+            quarters = [section]
+            for _ in range(4):
+                quarters.append(sections.turned(quarters[-1]))
+            self.assertEqual(section, quarters[-1])
+            self.assertEqual(section, sections.mirrored(sections.mirrored(section)))
+            for n, m in ((3, 7), (10 ** 30, 1), (1, 10 ** 30), (1, 1)):
+                there = sections.grown(section, (n, m))
+                self.assertEqual(section, sections.grown(there, (m, n)))
+                size = number(sections.area_of(section)) * Fraction(n * n, m * m)
+                self.assertEqual(pair(size), sections.area_of(there))
+            for told in quarters + [sections.mirrored(section), sections.moved(section, (1, 2, 3))]:
+                self.assertEqual(sections.area_of(section), sections.area_of(told))
+                self.assertEqual(told, sections.polygon_of(told))
+
+    def test_rim_points_of_each_edge(self):
+        for section in ALL:
+            for edge in range(len(section)):
+                for share in ((0, 1), (1, 2), (1, 10 ** 40), (10 ** 40 - 1, 10 ** 40), (355, 452)):
+                    self.assertIs(True, sections.is_rim_point(section, (edge, share)))
+                    place = sections.on_rim(section, (edge, share))
+                    self.assertEqual(rim_spot(section, (edge, share)), spot(place))
+                    self.assertEqual((edge, share), sections.rim_of(section, place))
+                    self.assertIs(True, sections.holds(section, place))
+                    self.assertIs(False, sections.is_inside(section, place))
+                for share in ((1, 1), (-1, 2), (2, 4), (0, 3), (3, 2), (10 ** 40, 10 ** 40), (-1, 10 ** 40), (1, -2),
+                              (0, -1)):
+                    self.assertIs(False, sections.is_rim_point(section, (edge, share)))
+                    raised(self, InvalidRimPoint, {"given": (edge, share)}, sections.on_rim, section, (edge, share))
+            for edge in (-1, len(section), 10 ** 40, True, "0", None):
+                self.assertIs(False, sections.is_rim_point(section, (edge, (1, 2))))
 
     def test_areas_and_middles(self):
         maker = Maker(3)

@@ -4,7 +4,7 @@ import unittest
 from fractions import Fraction
 
 from hullrests import stands
-from hullrests.cuts import is_stand
+from hullrests.cuts import area_of_stand, is_stand, up_of
 from hullrests.errors import InvalidArc, InvalidArea, InvalidIndex, InvalidRimPoint, InvalidSection
 from tests import wrong
 from tests.reckoning import Maker, area, number, pair, spot, wet
@@ -13,6 +13,7 @@ from tests.wrong import check_arguments
 
 SECTION = (InvalidSection, wrong.SECTIONS)
 AREA = (InvalidArea, wrong.areas(square, (1, 1)))
+SKEW = ((0, 0, 1), (9, -1, 2), (10 ** 12, 1, 10 ** 11), (7, 5, 3))
 RIM = (InvalidRimPoint, wrong.rims(square))
 ARC = (InvalidArc, wrong.arcs(square))
 
@@ -47,6 +48,103 @@ class StandsTest(unittest.TestCase):
                 self.assertEqual(rim, back[1])
                 self.assertEqual(number(size), area(wet(section, back)))
                 self.assertEqual(back, stands.stand_from(section, size, back[0]))
+
+    def test_areas_near_the_ends(self):
+        for section in ALL:
+            whole = area([spot(corner) for corner in section])
+            for size in (pair(whole / 10 ** 40), pair(whole - whole / 10 ** 40)):
+                shares = ((0, 1), (1, 3), (10 ** 30 - 1, 10 ** 30))
+                for rim in [(k, share) for k in range(len(section)) for share in shares]:
+                    stand = stands.stand_from(section, size, rim)
+                    self.assertIs(True, is_stand(section, stand))
+                    self.assertEqual(size, area_of_stand(section, stand))
+                    self.assertEqual(stand, stands.stand_to(section, size, stand[1]))
+                told = stands.pieces(section, size)
+                self.assertEqual(2 * len(section), len(told))
+                self.assertEqual(2 * len(section), len(stands.corner_stands(section, size)))
+        self.assertEqual(((3, (10 ** 40 - 1, 10 ** 40)), (1, (1, 10 ** 40))),
+                         stands.stand_from(square, (1, 10 ** 40), (3, (10 ** 40 - 1, 10 ** 40))))
+
+    def test_once_round(self):
+        for section in ALL + (SKEW,):
+            whole = area([spot(corner) for corner in section])
+            for size in (pair(whole / 2), pair(whole / 30), pair(2 * whole / 3)):
+                found = [stands.stand_from(section, size, (edge, pair(Fraction(part, 5))))
+                         for edge in range(len(section)) for part in range(5)]
+                rights = [key(right) for left, right in found]
+                self.assertEqual(1, sum(there < here for here, there in zip(rights, rights[1:] + rights[:1])))
+                ups = [up_of(section, stand) for stand in found]
+                half_turns = sum((a, b) < (0, 0) for a, b in ups)
+                self.assertTrue(0 < half_turns < len(ups))
+                for (a, b), (c, d) in zip(ups, ups[1:] + ups[:1]):
+                    # Each up lies a little counterclockwise of the one before it.
+                    self.assertGreater(a * d - b * c, 0)
+                starts = sum((a, b) < (0, 0) <= (c, d) for (a, b), (c, d) in zip(ups, ups[1:] + ups[:1]))
+                self.assertEqual(1, starts)
+
+    def test_parallel_edges(self):
+        # Between the left and the right edge the shares of both ends have a fixed sum; elsewhere they do not.
+        for size, found in (((1, 2), (0, 1, 1, 0)), ((1, 3), (-1, 3, 3, 0)), ((3, 4), (1, 2, 2, 0))):
+            told = stands.pieces(square, size)
+            index = next(k for k, piece in enumerate(told) if piece[0] == 0 and piece[3] == 2)
+            self.assertEqual(found, stands.right_share(square, size, index))
+        for k, piece in enumerate(stands.pieces(square, (1, 3))):
+            across = (piece[3] - piece[0]) % 4 == 2
+            self.assertEqual(across, stands.right_share(square, (1, 3), k)[3] == 0)
+        self.assertEqual(((0, (0, 1), (1, 3), 1), (0, (1, 3), (1, 1), 2)), stands.pieces(square, (1, 3))[:2])
+
+    def test_both_ends_at_corners(self):
+        both = tuple(((k, (0, 1)), ((k + 2) % 4, (0, 1))) for k in range(4))
+        self.assertEqual(both, stands.corner_stands(square, (1, 2)))
+        self.assertEqual(tuple((k, (0, 1), (1, 1), (k + 2) % 4) for k in range(4)), stands.pieces(square, (1, 2)))
+        for section in ALL:
+            for k in range(len(section)):
+                for j in range(len(section)):
+                    stand = ((k, (0, 1)), (j, (0, 1)))
+                    if is_stand(section, stand):
+                        told = stands.corner_stands(section, area_of_stand(section, stand))
+                        self.assertEqual(1, told.count(stand))
+                        self.assertEqual(len(told), len(set(left for left, right in told)))
+                        self.assertLess(len(told), 2 * len(section))
+
+    def test_pieces_by_hand(self):
+        self.assertEqual(((0, (0, 1), (3, 4), 1), (0, (3, 4), (1, 1), 2), (1, (0, 1), (3, 4), 2),
+                          (1, (3, 4), (1, 1), 0), (2, (0, 1), (3, 4), 0), (2, (3, 4), (1, 1), 1)),
+                         stands.pieces(half, (1, 8)))
+        for left, index in (((0, (0, 1)), 0), ((0, (3, 4)), 1), ((0, (3 * 10 ** 40 - 1, 4 * 10 ** 40)), 0),
+                            ((0, (10 ** 40 - 1, 10 ** 40)), 1), ((1, (0, 1)), 2), ((2, (3, 4)), 5), ((2, (7, 8)), 5)):
+            self.assertEqual(index, stands.piece_of(half, (1, 8), left))
+        self.assertEqual((1, 0, 4, -4), stands.right_share(half, (1, 8), 0))
+        self.assertEqual((-3, 4, 0, 4), stands.right_share(half, (1, 8), 1))
+
+    def test_stretches_by_hand(self):
+        whole = tuple((k, piece[1], piece[2]) for k, piece in enumerate(stands.pieces(half, (1, 8))))
+        for arc, told in (
+                (None, whole), (((0, (3, 4)), (0, (3, 4))), ((1, (3, 4), (3, 4)),)),
+                (((1, (0, 1)), (1, (0, 1))), ((2, (0, 1), (0, 1)),)),
+                (((0, (0, 1)), (0, (3, 4))), ((0, (0, 1), (3, 4)),)),
+                (((0, (3, 4)), (1, (0, 1))), ((1, (3, 4), (1, 1)),)),
+                (((0, (1, 2)), (0, (7, 8))), ((0, (1, 2), (3, 4)), (1, (3, 4), (7, 8)))),
+                (((2, (7, 8)), (0, (0, 1))), ((5, (7, 8), (1, 1)),)),
+                (((2, (7, 8)), (0, (1, 2))), ((5, (7, 8), (1, 1)), (0, (0, 1), (1, 2)))),
+                (((0, (0, 1)), (2, (7, 8))), whole[:5] + ((5, (3, 4), (7, 8)),)),
+                (((0, (1, 2)), (0, (0, 1))), ((0, (1, 2), (3, 4)),) + whole[1:]),
+                (((0, (1, 2)), (0, (1, 4))), ((0, (1, 2), (3, 4)),) + whole[1:] + ((0, (0, 1), (1, 4)),)),
+                (((2, (4, 5)), (2, (3, 4))), ((5, (4, 5), (1, 1)),) + whole[:5])):
+            self.assertEqual(told, stands.stretches(half, (1, 8), arc))
+
+    def test_rim_points_of_arcs(self):
+        arcs = {((1, (1, 2)), (1, (1, 2))): ((1, (1, 2)),),
+                ((2, (1, 2)), (0, (0, 1))): ((2, (1, 2)), (2, (9, 10)), (0, (0, 1))),
+                ((0, (0, 1)), (0, (1, 2))): ((0, (0, 1)), (0, (1, 2)), (0, (1, 3)))}
+        rims = {(k, share) for k in range(3) for share in ((0, 1), (1, 3), (1, 2), (9, 10))}
+        for arc, told in arcs.items():
+            for rim in rims:
+                self.assertIs(rim in told, stands.is_on_arc(half, arc, rim))
+                self.assertIs(True, stands.is_on_arc(half, None, rim))
+                if arc[0] != arc[1]:
+                    # What is not on an arc is on the one from its end back to its beginning.
+                    self.assertIs(rim not in told or rim in arc, stands.is_on_arc(half, arc[::-1], rim))
 
     def test_corner_stands(self):
         for maker, section, size in self.each():

@@ -88,6 +88,14 @@ def logs(log):
         (section, area, each) for each in POINTS)
 
 
+def notes(section):
+    """No notes of a section."""
+    stand = ((0, (1, 2)), (1, (1, 2)))
+    sayings = ("Left", "left ", "", "lever", "dry", b"left", 0, None, True, ("left",), Odd())
+    return JUNK + (None, (), "left", ("left",), ("left", stand, None), ["left", stand], (stand, "left"), stand) + tuple(
+        (saying, stand) for saying in sayings) + tuple(("rest", each) for each in stands(section))
+
+
 def indexes(many):
     """No indexes of so many things."""
     return NO_COUNTS + (many, many + 1, -many - 1, 10 ** 40)
