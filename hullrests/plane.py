@@ -6,10 +6,8 @@ from hullrests.ratios import common_divisor, ratio, sign_of
 
 
 def place(x, y, w):
-    """The point x / w to the right, y / w up, w not 0."""
+    """The point x / w to the right, y / w up, w above 0."""
     divisor = gcd(gcd(x, y), w)
-    if w < 0:
-        divisor = -divisor
     return (x // divisor, y // divisor, w // divisor)
 
 
