@@ -79,6 +79,12 @@ def wetness_row(section, area, piece, point):
     return row_shortest(_row_cross(way, gaps))
 
 
+def heel_row(section, area, piece, up):
+    """The row, of degree 2 at most, whose only root along the piece is the left end's share at this up's heel."""
+    bottom, left, right, way = _end_rows(section, area, piece)
+    return row_shortest(row_plus(row_by(way[0], up[0]), row_by(way[1], up[1])))
+
+
 def arc_rows(section, area, arc):
     """The tuples (EDGE, LOW, HIGH, ROWS) of an arc's stretches, with the rows of their pieces."""
     told = arc_pieces(section, area, arc)

@@ -3,9 +3,7 @@
 from hullrests.checks import check_direction, check_fraction, check_point, check_section, check_stand
 from hullrests.errors import OffSection
 from hullrests.kinds import stand_fits
-from hullrests.lines import height_along, is_between, lowest_and_highest, stand_at_height
-from hullrests.polygons import polygon_area
-from hullrests.ratios import order
+from hullrests.lines import area_under, height_along, is_between, lowest_and_highest, stand_at_height
 from hullrests.rims import end_points, stand_up, turned_back, wet_area, wet_indexes, wet_polygon
 
 
@@ -49,10 +47,7 @@ def area_below(section, up, height):
     check_section(section)
     check_direction(up)
     check_fraction(height)
-    if is_between(section, up, height):
-        return wet_area(section, stand_at_height(section, up, height))
-    low, _ = lowest_and_highest(section, up)
-    return (0, 1) if order(height, low) <= 0 else polygon_area(section)
+    return area_under(section, up, height)
 
 
 def is_stand(section, value):

@@ -7,6 +7,7 @@ from hullrests.ratios import common_divisor, order
 from hullrests.rims import share_edge
 
 SAYINGS = ("left", "right", "rest", "firm", "tipping", "sliding")
+LETTERS = "abcdefghijklmnopqrstuvwxyz"
 
 
 def is_whole(value):
@@ -24,9 +25,14 @@ def wholes_fit(value):
     return isinstance(value, tuple) and all([is_whole(number) for number in value])
 
 
+def parts_fit(value, many):
+    """Whether it is a tuple of so many values."""
+    return isinstance(value, tuple) and len(value) == many
+
+
 def pair_fits(value):
     """Whether it is a tuple of two values."""
-    return isinstance(value, tuple) and len(value) == 2
+    return parts_fit(value, 2)
 
 
 def fraction_fits(value):
@@ -61,11 +67,24 @@ def area_fits(section, value):
     return fraction_fits(value) and value[0] > 0 and order(value, polygon_area(section)) < 0
 
 
+def share_fits(value):
+    """Whether it is a fraction from (0, 1) on, below (1, 1)."""
+    return fraction_fits(value) and 0 <= value[0] < value[1]
+
+
+def mark_fits(value):
+    """Whether it is a mark: a rim point of some section."""
+    return pair_fits(value) and whole_up_to(value[0], 0, 7) and share_fits(value[1])
+
+
+def marks_fit(value):
+    """Whether it is a pair of marks."""
+    return pair_fits(value) and mark_fits(value[0]) and mark_fits(value[1])
+
+
 def rim_fits(section, value):
     """Whether it is a rim point of the section."""
-    if not pair_fits(value) or not whole_up_to(value[0], 0, len(section) - 1):
-        return False
-    return fraction_fits(value[1]) and 0 <= value[1][0] < value[1][1]
+    return mark_fits(value) and value[0] < len(section)
 
 
 def rims_fit(section, value):
@@ -88,9 +107,14 @@ def note_fits(section, value):
     return pair_fits(value) and word_fits(SAYINGS, value[0]) and stand_fits(section, value[1])
 
 
+def notes_fit(section, value):
+    """Whether it is a tuple of at most twelve notes of the section."""
+    return isinstance(value, tuple) and len(value) <= 12 and all([note_fits(section, note) for note in value])
+
+
 def log_fits(value):
     """Whether it is a log."""
-    if not isinstance(value, tuple) or len(value) != 3:
+    if not parts_fit(value, 3):
         return False
     return section_fits(value[0]) and area_fits(value[0], value[1]) and point_fits(value[2])
 
@@ -108,3 +132,8 @@ def row_fits(value):
 def word_fits(words, value):
     """Whether it is one of these words."""
     return isinstance(value, str) and value in words
+
+
+def name_fits(value):
+    """Whether it is a name: 1 to 12 letters from a to z."""
+    return isinstance(value, str) and 1 <= len(value) <= 12 and all([sign in LETTERS for sign in value])

@@ -1,7 +1,9 @@
 """Water lines told by an up and a height; nothing is checked here."""
 
 from hullrests.plane import inner_of
+from hullrests.polygons import polygon_area
 from hullrests.ratios import order, ratio_gap, ratio_quotient
+from hullrests.rims import wet_area
 
 
 def height_along(up, point):
@@ -36,3 +38,11 @@ def stand_at_height(section, up, height):
         if order(mark, height) <= 0 and order(height, after) < 0:
             right = (k, ratio_quotient(ratio_gap(height, mark), ratio_gap(after, mark)))
     return (left, right)
+
+
+def area_under(section, up, height):
+    """The area of all points of the section whose height is at most this one."""
+    low, high = lowest_and_highest(section, up)
+    if order(height, low) <= 0:
+        return (0, 1)
+    return wet_area(section, stand_at_height(section, up, height)) if order(height, high) < 0 else polygon_area(section)

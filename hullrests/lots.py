@@ -3,8 +3,7 @@
 from hullrests.balance import level_line, lever_of, rest_line, sign_for, words_of
 from hullrests.checks import check_arc, check_area, check_polygon, check_section, check_stand, check_word
 from hullrests.curves import arc_rows, lever_row, meeting_rows
-from hullrests.plane import opposite_line
-from hullrests.polygons import cut_below
+from hullrests.polygons import cut_below, cut_on
 from hullrests.polys import row_by
 from hullrests.ratios import sign_of
 from hullrests.rests import kinds_round
@@ -82,9 +81,7 @@ def can_turn(section, area, lot, arc, word):
 
 def _resting(section, stand, lot):
     """The resting part, unchecked."""
-    line = rest_line(section, stand)
-    found = cut_below(lot, line)
-    return None if found is None else cut_below(found, opposite_line(line))
+    return cut_on(lot, rest_line(section, stand))
 
 
 def resting_part(section, stand, lot):

@@ -2,7 +2,7 @@
 
 from math import lcm
 
-from hullrests.plane import crossing, excess, line_through_both, place, way_to
+from hullrests.plane import crossing, excess, line_through_both, opposite_line, place, way_to
 from hullrests.ratios import ratio
 
 
@@ -106,3 +106,9 @@ def cut_below(polygon, line):
         if excess(line, corner) <= 0:
             found.append(corner)
     return hull_of(found) if found else None
+
+
+def cut_on(polygon, line):
+    """What the polygon and the line have in common; None for nothing."""
+    found = cut_below(polygon, line)
+    return None if found is None else cut_below(found, opposite_line(line))

@@ -77,13 +77,17 @@ def kind_of(log, stand):
     return kinds_round(parts)[before] if sign == 0 else None
 
 
+def rest_ahead(many, before, sign):
+    """Which of so many rests a log comes to where so many are before it and the lever has this sign."""
+    return (before - 1) % many if sign > 0 else before % many
+
+
 def comes_to(log, stand):
     """The number of the rest to which the log let go at a stand comes, or at which it stays."""
     _check_log_and_stand(log, stand)
     parts = righting_parts(log)
     before, sign = _place_round(parts, stand[0])
-    many = len(kinds_round(parts))
-    return (before - 1) % many if sign > 0 else before % many
+    return rest_ahead(len(kinds_round(parts)), before, sign)
 
 
 def has_one_pose(log):

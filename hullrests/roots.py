@@ -17,10 +17,19 @@ def chain_of(row):
     return row_sturm(row_quotient(row, chain[-1]))
 
 
+def changes_along(signs):
+    """How often the sign changes along the signs, 0 left out."""
+    return len(told_once([sign for sign in signs if sign != 0])) - 1
+
+
+def changes_at(chain, at):
+    """How often the sign of the worth at a fraction changes along the chain."""
+    return changes_along([sign_at(row, at) for row in chain])
+
+
 def _mark(chain, at):
     """The triple of a fraction, how often the sign changes there along the chain, and 1 for a root there, or 0."""
-    signs = [sign for sign in [sign_at(row, at) for row in chain] if sign != 0]
-    return (at, len(told_once(signs)) - 1, 1 if sign_at(chain[0], at) == 0 else 0)
+    return (at, changes_at(chain, at), 1 if sign_at(chain[0], at) == 0 else 0)
 
 
 def _from_mark_to(mark, other):

@@ -32,35 +32,37 @@ def shown(error):
 
 
 class ExamplesTest(unittest.TestCase):
+    def holds(self, names, code, answer):
+        """Holds that an example answers, or raises, as it tells."""
+        if not answer:
+            exec(code, names)
+        elif answer.startswith("raises "):
+            with self.assertRaises(HullError) as caught:
+                exec(code, names)
+            self.assertEqual(answer, shown(caught.exception))
+        else:
+            self.assertEqual(ast.literal_eval(answer), eval(code, names))
+
     def test_examples(self):
         names, many = {}, {}
         for heading, code, answer in examples(TEXT):
             with self.subTest(heading, code=code):
-                if not answer:
-                    exec(code, names)
-                elif answer.startswith("raises "):
-                    with self.assertRaises(HullError) as caught:
-                        eval(code, names)
-                    self.assertEqual(answer, shown(caught.exception))
-                else:
-                    self.assertEqual(ast.literal_eval(answer), eval(code, names))
+                self.holds(names, code, answer)
                 many[heading] = many.get(heading, 0) + bool(answer)
         self.assertEqual({"hullrests/points.py": 1, "hullrests/sections.py": 2, "hullrests/cuts.py": 2,
                           "hullrests/stands.py": 2, "hullrests/levers.py": 1, "hullrests/metacentres.py": 1,
                           "hullrests/rows.py": 4, "hullrests/righting.py": 2, "hullrests/rests.py": 3,
                           "hullrests/lots.py": 5, "hullrests/draughts.py": 5, "hullrests/drypoints.py": 5,
-                          "hullrests/notes.py": 5}, many)
+                          "hullrests/notes.py": 5, "hullrests/heels.py": 3, "hullrests/loads.py": 4,
+                          "hullrests/certificates.py": 5}, many)
 
     def test_readme(self):
         names, many = {}, 0
-        for heading, code, answer in examples(README.split("```")[1].strip()):
+        for heading, code, answer in examples("\n".join(part.strip() for part in README.split("```")[1:4:2])):
             with self.subTest(code=code):
-                if answer:
-                    self.assertEqual(ast.literal_eval(answer), eval(code, names))
-                    many += 1
-                else:
-                    exec(code, names)
-        self.assertEqual(8, many)
+                self.holds(names, code, answer)
+                many += bool(answer)
+        self.assertEqual(18, many)
 
 
 if __name__ == "__main__":

@@ -17,7 +17,7 @@ FILES = sorted(FOLDER.glob("*.py"))
 LIBRARY = {"math": {"gcd", "lcm", "isqrt", "comb", "perm", "factorial"}}
 BUILTINS = set("""len range enumerate zip min max sum abs sorted reversed int str bool list tuple dict set isinstance
 ord repr any all divmod Exception ValueError TypeError KeyError IndexError LookupError ZeroDivisionError
-ArithmeticError OverflowError RuntimeError NotImplementedError AttributeError StopIteration""".split())
+ArithmeticError OverflowError RuntimeError NotImplementedError AttributeError StopIteration property""".split())
 METHODS = set("""append clear copy count endswith extend find get index insert isalnum isalpha isdigit islower isspace
 isupper items join keys ljust lower lstrip partition pop remove replace reverse rfind rjust rpartition rsplit rstrip
 setdefault split splitlines startswith strip update upper values zfill bit_length""".split())
@@ -30,8 +30,12 @@ BARRED_WORDS = re.compile(r"\b(type|typing|typing_extensions|enum|Enum|IntEnum|S
 BARRED_STARTS = ("_wall", "_pe_", "_dcw_", "_enum_", "_cm_", "_twin_re_", "_lay_", "_law_", "_stub_", "_sre", "__")
 BARRED_NODES = (ast.Lambda, ast.Global, ast.AsyncFunctionDef, ast.Await, ast.AsyncFor, ast.AsyncWith, ast.Div,
                 ast.Starred, ast.GeneratorExp, ast.Yield, ast.YieldFrom, ast.NamedExpr, ast.Set, ast.SetComp, ast.Try,
-                ast.With, ast.AnnAssign, ast.Nonlocal, ast.Match, ast.Import, ast.MatMult)
+                ast.AnnAssign, ast.Nonlocal, ast.Match, ast.Import, ast.MatMult)
 AT_ONCE = {"zip", "enumerate", "reversed", "range"}
+DUNDERS = {"__init__", "__len__", "__bool__", "__contains__", "__enter__", "__exit__"}
+ATTRIBUTES = {"given", "index", "now", "past", "around", "shop", "began"}
+PROPERTIES = {"names", "wishes"}
+OWN_METHODS = {"put", "drop", "wish", "lift", "named", "undo", "trial", "tried", "say", "_change"}
 
 
 def tree_of(path):
@@ -120,7 +124,12 @@ class LanguageTest(unittest.TestCase):
             self.assertIsInstance(node, (ast.ImportFrom, ast.FunctionDef, ast.ClassDef, ast.Assign))
             if isinstance(node, ast.Assign):
                 self.assertEqual([ast.Name], [each.__class__ for each in node.targets])
-                ast.literal_eval(node.value)
+                if isinstance(node.value, ast.Dict) and isinstance(node.value.values[0], ast.Name):
+                    above = {each.name for each in tree.body[:k] if isinstance(each, ast.FunctionDef)}
+                    self.assertLessEqual({each.id for each in node.value.values}, above)
+                    self.assertTrue(all(isinstance(each, ast.Constant) for each in node.value.keys))
+                else:
+                    ast.literal_eval(node.value)
         names = list(top_names(tree))
         self.assertEqual(len(names), len(set(names)))
 
@@ -131,12 +140,16 @@ class LanguageTest(unittest.TestCase):
         for node in ast.walk(tree):
             self.assertNotIsInstance(node, BARRED_NODES, getattr(node, "lineno", None))
             if isinstance(node, (ast.FunctionDef, ast.ClassDef)):
-                self.assertEqual([], node.decorator_list)
-                self.assertIsNotNone(ast.get_docstring(node) or node.name == "__init__" or None, node.name)
+                decorators = [each.id for each in node.decorator_list]
+                self.assertEqual(["property"] if node.name in PROPERTIES else [], decorators)
+                self.assertIsNotNone(ast.get_docstring(node) or node.name in DUNDERS or None, node.name)
             if isinstance(node, ast.FunctionDef):
                 self.assertIsInstance(node.parent, (ast.Module, ast.ClassDef))
                 self.assertEqual(([], None, None, []), (node.args.defaults, node.args.vararg, node.args.kwarg,
                                                         node.args.kwonlyargs))
+            if isinstance(node, ast.With):
+                self.assertEqual([ast.Call], [each.context_expr.__class__ for each in node.items])
+                self.assertEqual([ast.Name], [each.optional_vars.__class__ for each in node.items])
             if isinstance(node, ast.BinOp) and isinstance(node.op, ast.Pow):
                 self.assertIsInstance(node.right, ast.Constant)
             if isinstance(node, ast.Compare):
@@ -155,10 +168,13 @@ class LanguageTest(unittest.TestCase):
         classes = {node.name for node in tree.body if isinstance(node, ast.ClassDef)}
         tops = set(top_names(tree))
         for name, node in bound_names(tree):
-            self.assertRegex(name, r"^(_?[A-Za-z][A-Za-z0-9_]*|_|__init__)$")
+            if name in DUNDERS:
+                self.assertIsInstance(node.parent, ast.ClassDef)
+                continue
+            self.assertRegex(name, r"^(_?[A-Za-z][A-Za-z0-9_]*|_)$")
             self.assertNotIn(name, BARRED)
             self.assertNotIn(name, dir(builtins))
-            self.assertFalse(name.startswith(BARRED_STARTS) and name != "__init__", name)
+            self.assertFalse(name.startswith(BARRED_STARTS), name)
             if not isinstance(node, (ast.FunctionDef, ast.ClassDef, ast.alias)):
                 self.assertNotIn(name, imports | classes)
                 if not (isinstance(node, ast.Name) and isinstance(node.parent.parent, ast.Module)):
@@ -209,9 +225,12 @@ class LanguageTest(unittest.TestCase):
         for node in ast.walk(tree):
             if isinstance(node, ast.Attribute):
                 if isinstance(node.ctx, ast.Store):
-                    self.assertIn(node.attr, ("given", "index"))
-                else:
+                    self.assertIn(node.attr, ATTRIBUTES)
+                elif path.stem not in ("workshops", "consoles"):
                     self.assertIn(node.attr, METHODS)
+                elif node.attr not in ATTRIBUTES | PROPERTIES:
+                    self.assertIn(node.attr, METHODS | OWN_METHODS)
+                if isinstance(node.ctx, ast.Load) and node.attr not in ATTRIBUTES - METHODS | PROPERTIES:
                     self.assertIsInstance(node.parent, ast.Call)
                     self.assertIs(node.parent.func, node)
                     self.assertEqual([], node.parent.keywords)
@@ -225,6 +244,40 @@ class LanguageTest(unittest.TestCase):
                 else:
                     self.assertIsInstance(parent, (ast.For, ast.comprehension))
                     self.assertIs(parent.iter, node)
+
+    def test_classes(self):
+        self.for_each(self.rule_classes)
+
+    def rule_classes(self, path, text, tree):
+        for node in ast.walk(tree):
+            if not isinstance(node, ast.ClassDef):
+                continue
+            self.assertIs(tree, node.parent)
+            methods = {each.name: each for each in node.body if isinstance(each, ast.FunctionDef)}
+            rest = [each for each in node.body if not isinstance(each, ast.FunctionDef)]
+            self.assertEqual([ast.Expr], [each.__class__ for each in rest])
+            self.assertEqual(["HullError"] if path.stem == "errors" and node.name != "HullError" else
+                             ["ValueError"] if path.stem == "errors" else [], [each.id for each in node.bases])
+            self.assertFalse(set(methods) & ATTRIBUTES)
+            for name in ("__len__", "__bool__", "__contains__"):
+                if name in methods:
+                    self.assertEqual([ast.Return], [each.__class__ for each in methods[name].body])
+            if "__exit__" in methods:
+                self.rule_exit(methods["__exit__"])
+
+    def rule_exit(self, method):
+        """Only assignments of attributes, and a test of the error's class."""
+        self.assertEqual(["self", "kind", "value", "trace"], [each.arg for each in method.args.args])
+        for node in ast.walk(method):
+            if isinstance(node, ast.stmt) and node is not method:
+                self.assertIsInstance(node, (ast.Assign, ast.If))
+            if isinstance(node, ast.Assign):
+                self.assertIsInstance(node.value, ast.Attribute)
+            if isinstance(node, ast.If):
+                self.assertEqual("kind is not None", ast.unparse(node.test))
+            self.assertNotIsInstance(node, (ast.Call, ast.Subscript, ast.BinOp))
+            if isinstance(node, ast.Name):
+                self.assertNotIn(node.id, ("value", "trace"))
 
     def test_loops(self):
         self.for_each(self.rule_loops)

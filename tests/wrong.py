@@ -96,6 +96,44 @@ def notes(section):
         (saying, stand) for saying in sayings) + tuple(("rest", each) for each in stands(section))
 
 
+NAMES = tuple(each for each in JUNK if each.__class__ is not str) + (
+    None, 1, "", "abcdefghijklm", "Beam", "bEam", "beamS", "a b", " a", "a ", "a-b", "a1", "1", "_", "a_b", "a.b", "a" * 99,
+    ("a",), ["a"], b"a", {"a": 1})
+MARKS = JUNK + (None, 0, (), (0,), (8, (0, 1)), (-1, (0, 1)), (0, (1, 1)), (0, (3, 2)), (0, (-1, 2)), (0, (2, 4)),
+                (0, (0, 2)), (True, (0, 1)), (0, (False, 1)), [0, (0, 1)], (0, [0, 1]), (0, 0), (0, None), ("0", (0, 1)),
+                (10 ** 30, (0, 1)), (0, (0, 1), 0), ((0, 1), 0))
+
+
+def mark_pairs():
+    """No pairs of marks."""
+    mark = (7, (1, 2))
+    return JUNK + ((), mark, [mark, mark], (mark,), (mark, mark, mark), (None, None), (mark, None), 0) + tuple(
+        (each, mark) for each in MARKS) + tuple((mark, each) for each in MARKS)
+
+
+def wishes():
+    """No wishes."""
+    pair, point, up, lot = ((0, (0, 1)), (7, (1, 2))), (1, 1, 1), (0, 1), ((0, 0, 1),)
+    right = (("one pose", "a"), ("firm", "a", pair), ("unturned", "a", None, "left"), ("unseen", "a", point, "dry"),
+             ("trap", "a", None, lot), ("level", "a", up))
+    found = JUNK + (None, (), "one pose", ("one pose",), ("firm",), ("a", "one pose"), (None, "a"), (Odd(), "a"))
+    for wish in right:
+        found += (list(wish), wish + (None,), wish[:-1], wish[:1] + wish[2:], (wish[0] + " ",) + wish[1:],
+                  (wish[0].upper(),) + wish[1:], (wish[0].encode(),) + wish[1:], ([wish[0]],) + wish[1:],
+                  ("two poses",) + wish[1:], (wish,), wish * 2)
+        found += tuple((wish[0], name) + wish[2:] for name in NAMES)
+    found += tuple(("firm", "a", each) for each in mark_pairs() + (None,))
+    found += tuple(("unturned", "a", each, "left") for each in mark_pairs())
+    found += tuple(("unturned", "a", pair, each) for each in WORDS + ("wet",))
+    found += tuple(("unseen", "a", each, "wet") for each in POINTS)
+    found += tuple(("unseen", "a", point, each) for each in WORDS + ("rim", "left", "right", "Wet", b"dry", ("dry",))
+                   if each.__class__ is not str or each != "dry")
+    found += tuple(("trap", "a", each, lot) for each in mark_pairs())
+    found += tuple(("trap", "a", pair, each) for each in POLYGONS)
+    found += tuple(("level", "a", each) for each in DIRECTIONS)
+    return found
+
+
 def indexes(many):
     """No indexes of so many things."""
     return NO_COUNTS + (many, many + 1, -many - 1, 10 ** 40)
