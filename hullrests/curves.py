@@ -80,7 +80,10 @@ def wetness_row(section, area, piece, point):
 
 
 def heel_row(section, area, piece, up):
-    """The row, of degree 2 at most, whose only root along the piece is the left end's share at this up's heel."""
+    """The row, of degree 2 at most, whose only root along the piece is the left end's share at this up's heel.
+
+    As the water line's way turns counterclockwise, it comes nearer to the up: the row goes from below 0 to above 0.
+    """
     bottom, left, right, way = _end_rows(section, area, piece)
     return row_shortest(row_plus(row_by(way[0], up[0]), row_by(way[1], up[1])))
 

@@ -1,6 +1,7 @@
 """The only root of a row of degree 1 or 2 on a stretch, which may be no fraction; nothing is checked here.
 
 Such a root is told by the triple (ONLY, LOW, HIGH): the row, and the ends of the stretch, where the root may lie, too.
+On the stretch the row is below 0 before its root, and above 0 behind it.
 """
 
 from math import isqrt
@@ -17,11 +18,7 @@ def root_beside(surd, at):
         return 1
     if order(high, at) < 0:
         return -1
-    there, start = sign_at(only, at), sign_at(only, low)
-    if there == 0:
-        return 0
-    # Between LOW and the fraction the row changes its sign, or is 0 at LOW, just if the root is there.
-    return 1 if there == start else -1
+    return -sign_at(only, at)
 
 
 def sign_at_surd(row, surd):
@@ -55,7 +52,5 @@ def fraction_of(surd):
     c, b, a = only
     square = b * b - 4 * a * c
     side = isqrt(square)
-    if side * side != square:
-        return None
-    found = ratio(side - b, 2 * a)
-    return found if root_beside(surd, found) == 0 else ratio(-side - b, 2 * a)
+    # Of both roots this is the one at which the row grows.
+    return ratio(side - b, 2 * a) if side * side == square else None

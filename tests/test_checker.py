@@ -218,14 +218,15 @@ class CheckerTest(unittest.TestCase):
         for paper in ((0, 1, 2), (0, 2, 3), (0, 1, 4), (3, 4, 5)):
             self.assertIs(True, accepts(claim, paper))
         for paper in ((), (0,), (1,), (5,), (0, 1), (0, 1, 5), (2, 0), (4, 0), (0, 0), (0, 0, 4), (0, 4, 0), (0, 4, 4), (0, 4, 6),
-                      (-6, 4), (0, -2), (0, 6), (4, 6), (0, 10 ** 30), (False, 4), (0, True), ("0", 4), (None, 4), (0, (4,)),
+                      (-1, 4), (-1,), (-6, 4), (0, -2), (0, 6), (4, 6), (0, 10 ** 30), (False, 4), (0, True), ("0", 4), (None, 4), (0, (4,)),
                       (0, 1, 2, 3), (0, 2, 3, 4), (0, 1, 2, 3, 4, 5), [0, 4], ((0, 4),), (0, wrong.Odd()), 0, None, "04"):
             self.refused(claim, paper)
         # One note that is fitted by none, and three of which each two are fitted.
         self.assertIs(True, accepts(("at odds", raft, hub, notes), (0,)))
         self.assertIs(True, accepts(("at odds", raft, hub, notes), (0, 1)))
         self.assertIs(True, accepts(("at odds", raft, hub, notes), (2,)))
-        self.refused(("at odds", raft, hub, notes), (3,))
+        for paper in ((3,), (-1,), (-1, 0), (-6,), (6,)):
+            self.refused(("at odds", raft, hub, notes), paper)
         stands = [stand_from(raft, (2, 1), left) for left in ((3, (1, 2)), (0, (5, 6)), (2, (1, 6)))]
         three = tuple(("left", stand) for stand in stands)
         wide = ((-99, -99, 1), (99, -99, 1), (99, 99, 1), (-99, 99, 1))
