@@ -172,6 +172,24 @@ class SectionsTest(unittest.TestCase):
         self.assertIs(False, sections.holds(((0, 0, 1), (2, 2, 1)), (3, 3, 1)))
         self.assertIs(False, sections.holds(((0, 0, 1), (2, 2, 1)), (-1, -1, 1)))
 
+    def test_what_a_point_and_a_stretch_have(self):
+        steps, tiny = (-1, 0, 1), Fraction(1, 10 ** 40)
+        for x, y in [(x, y) for x in steps for y in steps]:
+            here = point(Fraction(2 * x, 3), Fraction(5 * y, 7))
+            u, v = spot(here)
+            for p, q in [(p, q) for p in steps for q in steps]:
+                there = point(u + p * tiny, v + q * tiny)
+                self.assertIs((p, q) == (0, 0), sections.holds((here,), there))
+                if (p, q) != (0, 0):
+                    stretch = sections.polygon_of((here, there))
+                    for share in (Fraction(-1, 10 ** 9), Fraction(1 + 10 ** 9, 10 ** 9)):
+                        self.assertIs(False, sections.holds(stretch, between(here, there, pair(share))))
+                    for share in (Fraction(0), Fraction(1, 10 ** 9), Fraction(1)):
+                        on_it = between(here, there, pair(share))
+                        self.assertIs(True, sections.holds(stretch, on_it))
+                        beside = point(*(a + b * tiny * tiny for a, b in zip(spot(on_it), (-q, p))))
+                        self.assertIs(False, sections.holds(stretch, beside))
+
     def test_moved_and_turned(self):
         for section in ALL:
             way, share = (1, -2, 3), (3, 7)

@@ -391,9 +391,10 @@ class WholeTest(unittest.TestCase):
             for k, kind in enumerate(kinds):
                 edge, n, is_just = near(log, k, FINE)
                 after = near(log, (k + 1) % len(kinds), FINE)
-                spans = stretches(section, area, ((edge, pair(Fraction(n, FINE))), (after[0], pair(Fraction(after[1], FINE)))))
-                if (edge, n) == after[:2] or len(spans) == 0:
+                if (edge, n) == after[:2] or n + 1 == FINE:
                     continue
+                first = (edge, pair(Fraction(n + (not is_just), FINE)))
+                spans = stretches(section, area, (first, (after[0], pair(Fraction(after[1], FINE)))))
                 lefts = []
                 for index, low, high in spans:
                     middle = pair((number(low) + number(high)) / 2)
