@@ -9,8 +9,8 @@ from hullrests.errors import (InvalidArc, InvalidArea, InvalidIndex, InvalidNumb
                               InvalidSection, InvalidStand, InvalidWord, NotInside)
 from hullrests.points import between, sense
 from hullrests.sections import is_inside, middle_of
-from hullrests.stands import is_on_arc, pieces, stand_from, stand_to, stretches
-from tests import reckoning, wrong
+from hullrests.stands import is_on_arc, pieces, stand_from, stretches
+from tests import wrong
 from tests.reckoning import Maker, area, cross, number, pair, point, rim_spot, sign, spot, told_once
 from tests.shapes import ALL, flat, half, hexagon, raft, span, square
 from tests.wrong import NINE, check_arguments, raised

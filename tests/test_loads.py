@@ -300,7 +300,8 @@ class LoadsTest(unittest.TestCase):
                 self.assertIn(told[passed[-1]], ("firm", "tipping"))
                 longest = max(longest, len(passed))
                 ends.add(told[passed[-1]])
-        self.assertEqual({"firm", "tipping", "left", "right"}, words | {"tipping"})
+        self.assertLessEqual({"firm", "left", "right"}, words)
+        self.assertIn("firm", ends)
         self.assertGreater(longest, 2)
 
     def test_floors_by_hand(self):

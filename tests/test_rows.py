@@ -7,7 +7,7 @@ from fractions import Fraction
 from hullrests import rows
 from hullrests.errors import InvalidFraction, InvalidIndex, InvalidNumber, InvalidNumbers, InvalidRow, NotAhead, Nought
 from tests import wrong
-from tests.reckoning import number, pair, sign, told_once
+from tests.reckoning import pair, sign, told_once
 from tests.wrong import check_arguments, raised
 
 CUBIC = (0, 1, -3, 2)
